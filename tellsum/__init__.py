@@ -1,0 +1,1 @@
+"""Tellsum: rows told back from sums of neighbours."""
