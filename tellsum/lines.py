@@ -1,6 +1,11 @@
 """Lines: the mores of places, the spans of rests, and the least row that fits or a paper that none does."""
 
+from tellsum.errors import NoFit
 from tellsum.heads import least_heads
+
+
+def is_place(line, number):
+    return 0 <= number < len(line[2])
 
 
 def mores_of(line):
@@ -43,6 +48,14 @@ def row_of(line, heads):
     return tuple([heads[place % k] + more for place, more in enumerate(mores_of(line))])
 
 
+# Rows with the same sums differ by such exchanges between rests alone.
+def exchanged_row(row, k, giver, taker):
+    shifts = [0] * k
+    shifts[giver] = -1
+    shifts[taker] = 1
+    return tuple([number + shifts[place % k] for place, number in enumerate(row)])
+
+
 def fitted_line(line):
     total = line[1][0]
     spans = rest_spans(line)
@@ -58,3 +71,9 @@ def fitted_line(line):
     if sum(highs) < total:
         return ("high", high_places)
     return ("row", row_of(line, least_heads(spans, total)))
+
+
+def fitting_spans(line):
+    if fitted_line(line)[0] != "row":
+        raise NoFit("no row fits this line")
+    return rest_spans(line)

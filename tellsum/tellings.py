@@ -49,6 +49,8 @@ def lengths_of(rows):
 
 
 def rows_within(rows, least, greatest):
+    if len(rows) != len(least):
+        return False
     return all([row_within(row, low, high) for low, row, high in zip(least, rows, greatest)])
 
 
@@ -74,10 +76,12 @@ def made_floor(sums, least, greatest):
     return (in_tuples(sums), in_tuples(least), in_tuples(greatest))
 
 
+def rises(numbers):
+    return all([numbers[i] < numbers[i + 1] for i in range(len(numbers) - 1)])
+
+
 def set_right(places, many):
-    if len(places) == 0 or places[0] < 0 or places[-1] >= many:
-        return False
-    return all([places[i] < places[i + 1] for i in range(len(places) - 1)])
+    return len(places) > 0 and rises(places) and places[0] >= 0 and places[-1] < many
 
 
 def sets_parts_right(many, sets, sums):
@@ -101,8 +105,6 @@ def ring_holds(ring, row):
 
 
 def floor_holds(floor, numbers):
-    if lengths_of(numbers) != lengths_of(floor[1]):
-        return False
     return rows_within(numbers, floor[1], floor[2]) and floor_sums(numbers) == floor[0]
 
 
