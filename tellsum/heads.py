@@ -1,8 +1,62 @@
 """Heads: one whole number within each of several spans, all adding up to a total.
 
 The mores tell a whole row by the numbers at its first places, its heads. What asks for these alone stands here,
-so that it serves wherever rows are told by heads.
+so that it serves wherever rows are told by heads: places go by turns to the rests of a line, to the rounds of a ring.
 """
+
+
+# What the bounds of each place ask of the head that its number is more than.
+def less_mores(bounds, mores):
+    return [bound - more for bound, more in zip(bounds, mores)]
+
+
+def head_spans(lows, highs, many):
+    return [(max(lows[j::many]), min(highs[j::many])) for j in range(many)]
+
+
+def row_by_heads(heads, mores):
+    many = len(heads)
+    return tuple([heads[place % many] + more for place, more in enumerate(mores)])
+
+
+# The j-th place is the one for head j that asks what the head's end is.
+def places_asking(asks, ends):
+    many = len(ends)
+    return tuple([j + many * asks[j::many].index(ends[j]) for j in range(many)])
+
+
+# By which places there are no heads that add up to the total, or None where there are.
+def heads_paper(lows, highs, many, total):
+    spans = head_spans(lows, highs, many)
+    low_ends = [low for low, high in spans]
+    high_ends = [high for low, high in spans]
+    low_places = places_asking(lows, low_ends)
+    high_places = places_asking(highs, high_ends)
+    for j in range(many):
+        if low_ends[j] > high_ends[j]:
+            return ("clash", low_places[j], high_places[j])
+    if sum(low_ends) > total:
+        return ("low", low_places)
+    if sum(high_ends) < total:
+        return ("high", high_places)
+    return None
+
+
+# Rows with the same sums differ by such exchanges between heads alone.
+def exchanged_row(row, many, giver, taker):
+    shifts = [0] * many
+    shifts[giver] = -1
+    shifts[taker] = 1
+    return tuple([number + shifts[place % many] for place, number in enumerate(row)])
+
+
+# Where any lesser row fits, one of these does: 1 goes from one head to a later one.
+def lesser_rows(row, many):
+    rows = []
+    for giver in range(many):
+        for taker in range(giver + 1, many):
+            rows.append(exchanged_row(row, many, giver, taker))
+    return rows
 
 
 def least_heads(spans, total):

@@ -1,50 +1,50 @@
-"""The judge of what is told of a line: it only adds and compares, and refuses nothing."""
+"""The judge of what is told of a line: it only adds and compares, and refuses nothing.
 
-from tellsum.lines import exchanged_row, high_asks, is_place, low_asks
+Whether a clash, a low or a high is so is asked by what places ask of the heads: so the judge of rings asks it, too.
+"""
+
+from tellsum.heads import lesser_rows
+from tellsum.lines import high_asks, low_asks
 from tellsum.sums import chosen_sum
 from tellsum.tellings import line_holds
 
 
-# Where a lesser row fits, one does that takes 1 from a rest and gives it to a later one: so no other is tried.
 def least_right(line, row):
-    k = line[0]
     if not line_holds(line, row):
         return False
-    for giver in range(k):
-        for taker in range(giver + 1, k):
-            if line_holds(line, exchanged_row(row, k, giver, taker)):
-                return False
-    return True
+    return not any([line_holds(line, lesser) for lesser in lesser_rows(row, line[0])])
 
 
-def clash_right(line, a, b):
-    k = line[0]
-    if not is_place(line, a) or not is_place(line, b) or a % k != b % k:
+def clash_right(lows, highs, many, a, b):
+    if not 0 <= a < len(lows) or not 0 <= b < len(highs) or a % many != b % many:
         return False
-    return low_asks(line)[a] > high_asks(line)[b]
+    return lows[a] > highs[b]
 
 
-def one_of_each_rest(line, places):
-    k = line[0]
-    if len(places) != k:
+def one_of_each(asks, many, places):
+    if len(places) != many:
         return False
-    return all([is_place(line, place) and place % k == j for j, place in enumerate(places)])
+    return all([0 <= place < len(asks) and place % many == j for j, place in enumerate(places)])
 
 
-def low_right(line, places):
-    return one_of_each_rest(line, places) and chosen_sum(low_asks(line), places) > line[1][0]
+def low_right(lows, many, total, places):
+    return one_of_each(lows, many, places) and chosen_sum(lows, places) > total
 
 
-def high_right(line, places):
-    return one_of_each_rest(line, places) and chosen_sum(high_asks(line), places) < line[1][0]
+def high_right(highs, many, total, places):
+    return one_of_each(highs, many, places) and chosen_sum(highs, places) < total
+
+
+def paper_right(lows, highs, many, total, told):
+    word = told[0]
+    if word == "clash":
+        return clash_right(lows, highs, many, told[1], told[2])
+    if word == "low":
+        return low_right(lows, many, total, told[1])
+    return word == "high" and high_right(highs, many, total, told[1])
 
 
 def line_right(line, told):
-    word = told[0]
-    if word == "row":
+    if told[0] == "row":
         return least_right(line, told[1])
-    if word == "clash":
-        return clash_right(line, told[1], told[2])
-    if word == "low":
-        return low_right(line, told[1])
-    return word == "high" and high_right(line, told[1])
+    return paper_right(low_asks(line), high_asks(line), line[0], line[1][0], told)

@@ -1,9 +1,9 @@
 """Places that settle a line: told besides its sums they leave one row, and the cheapest of them."""
 
 from tellsum.errors import NoPlace, Unlike
-from tellsum.heads import least_heads
+from tellsum.heads import exchanged_row, least_heads
 from tellsum.lineranges import sure_rests
-from tellsum.lines import exchanged_row, fitted_line, fitting_spans, is_place, row_of
+from tellsum.lines import fitting_spans, is_place, line_paper, row_of
 from tellsum.sums import chosen_sum
 from tellsum.tellings import line_holds, rises
 
@@ -90,7 +90,7 @@ def pairs_right(line, free, pairs):
 
 
 def settle_right(line, costs, told):
-    if fitted_line(line)[0] != "row":
+    if line_paper(line) is not None:
         return False
     free = free_rests(line)
     return places_right(line, costs, free, told[0]) and pairs_right(line, free, told[1])

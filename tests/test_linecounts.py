@@ -4,15 +4,11 @@ import unittest
 from tellsum.errors import NoFit, NoNumber
 from tellsum.linecounts import line_at, line_many, line_number
 from tests.helpers import (
-    all_rows, asked_twice, few_steps, fits, great_lines, is_greatest, is_least, moved, refused_alone, small_lines,
-    tiny_lines, whole_rows, with_number)
+    all_rows, asked_twice, few_steps, fits, flat, great_lines, is_greatest, is_least, moved, refused_alone,
+    small_lines, tiny_lines, whole_rows, with_number)
 
 FAR = 10 ** 60 - 1
 FARTHEST = 10 ** 5000
-
-
-def flat(many, number=0):
-    return (number,) * many
 
 
 def wide_line(k, low, high, total):

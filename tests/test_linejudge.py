@@ -4,15 +4,11 @@ import unittest
 from tellsum.linejudge import line_right
 from tellsum.lines import fitted_line
 from tests.helpers import (
-    all_rows, asked_twice, direct_more, direct_sums, few_steps, great_lines, moved, paper_so, small_lines, tiny_lines,
-    with_number)
+    all_rows, asked_twice, direct_more, direct_sums, few_steps, flat, great_lines, moved, paper_so, small_lines,
+    tiny_lines, with_number)
 
 FAR = 10 ** 60 - 1
 FARTHEST = 10 ** 5000
-
-
-def flat(many, number=0):
-    return (number,) * many
 
 
 class Judge(unittest.TestCase):

@@ -3,14 +3,11 @@ import unittest
 from tellsum.errors import NoFit, NoPlace
 from tellsum.lineranges import line_range, sure_places
 from tests.helpers import (
-    all_rows, asked_twice, few_steps, fits, great_lines, moved, refused_alone, small_lines, tiny_lines, whole_rows)
+    all_rows, asked_twice, few_steps, fits, flat, great_lines, moved, refused_alone, small_lines, tiny_lines,
+    whole_rows)
 
 FAR = 10 ** 60 - 1
 FARTHEST = 10 ** 5000
-
-
-def flat(many, number=0):
-    return (number,) * many
 
 
 class Ranges(unittest.TestCase):

@@ -3,15 +3,11 @@ import unittest
 
 from tellsum.lines import fitted_line, mores_of, rest_spans
 from tests.helpers import (
-    all_rows, asked_twice, direct_more, few_steps, fits, great_lines, is_least, paper_so, small_lines, tiny_lines,
-    whole_rows, with_number)
+    all_rows, asked_twice, direct_more, few_steps, fits, flat, great_lines, is_least, paper_so, small_lines,
+    tiny_lines, whole_rows, with_number)
 
 FAR = 10 ** 59
 WIDE = (10 ** 60 - 1) // 10
-
-
-def flat(many, number=0):
-    return (number,) * many
 
 
 def walked_spans(line):

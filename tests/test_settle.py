@@ -6,16 +6,12 @@ import unittest
 from tellsum.errors import NoFit, NoPlace, Unlike
 from tellsum.settle import free_rests, line_settle, settle_right, settles
 from tests.helpers import (
-    all_rows, asked_twice, few_steps, fits, great_lines, moved, refused_alone, small_lines, tiny_lines, whole_rows,
-    with_number)
+    all_rows, asked_twice, few_steps, fits, flat, great_lines, moved, refused_alone, small_lines, tiny_lines,
+    whole_rows, with_number)
 
 FAR = 10 ** 60 - 1
 FARTHEST = 10 ** 5000
 NO_FIT = (2, (9,), (0, 0), (1, 1))
-
-
-def flat(many, number=0):
-    return (number,) * many
 
 
 def fitting_lines(seed, each, longest):

@@ -6,18 +6,11 @@ from tellsum.errors import BadTelling
 from tellsum.tellings import (
     floor_holds, line_holds, made_floor, made_line, made_ring, made_sets, ring_holds, sets_hold)
 from tests.helpers import (
-    all_rows, asked_twice, direct_sums, fits, in_lists, refused_alone, small_lines, whole_rows, with_number)
+    all_rows, asked_twice, block, changed, direct_sums, fits, flat, floor_direct_sums, in_lists, refused_alone,
+    ring_direct_sums, small_lines, whole_rows, with_number)
 
 FAR = 10 ** 60 - 1
 WRONG_KS = (1, 0, -1, -2, -5, 6, 7, 24, FAR, -FAR, 10 ** 5000)
-
-
-def flat(many, number=0):
-    return (number,) * many
-
-
-def block(rows, columns, number=0):
-    return ((number,) * columns,) * rows
 
 
 def told_whole(case, told):
@@ -344,8 +337,7 @@ class RingHolds(unittest.TestCase):
             self.assertIs(asked_twice(self, ring_holds, ring, handed), wanted)
 
     def ring_round(self, row, k):
-        many = len(row)
-        return (k, tuple(sum(row[(i + j) % many] for j in range(k)) for i in range(many)))
+        return (k, ring_direct_sums(row, k))
 
     def test_one_off_at_any_place(self):
         for k in (2, 3, 4, 5):
@@ -392,35 +384,26 @@ class FloorHolds(unittest.TestCase):
     def numbers_of(self, rows, columns):
         return tuple(tuple((3 * r + 5 * c) % 7 for c in range(columns)) for r in range(rows))
 
-    def sums_of(self, numbers):
-        return tuple(
-            tuple(numbers[r][c] + numbers[r][c + 1] + numbers[r + 1][c] + numbers[r + 1][c + 1]
-                  for c in range(len(numbers[0]) - 1))
-            for r in range(len(numbers) - 1))
-
-    def changed(self, numbers, r, c, more):
-        return numbers[:r] + (with_number(numbers[r], c, numbers[r][c] + more),) + numbers[r + 1:]
-
     def test_one_off_at_any_cell_and_beyond_any_bound(self):
         for rows, columns in itertools.product(range(2, 7), range(2, 7)):
             numbers = self.numbers_of(rows, columns)
-            sums = self.sums_of(numbers)
+            sums = floor_direct_sums(numbers)
             wide = (sums, block(rows, columns, -99), block(rows, columns, 99))
             self.held(wide, numbers, True)
             self.held((sums, numbers, numbers), numbers, True)
             for r, c in itertools.product(range(rows), range(columns)):
-                self.held(wide, self.changed(numbers, r, c, 1), False)
-                self.held(wide, self.changed(numbers, r, c, -1), False)
-                self.held((sums, self.changed(numbers, r, c, 1), wide[2]), numbers, False)
-                self.held((sums, wide[1], self.changed(numbers, r, c, -1)), numbers, False)
+                self.held(wide, changed(numbers, r, c, 1), False)
+                self.held(wide, changed(numbers, r, c, -1), False)
+                self.held((sums, changed(numbers, r, c, 1), wide[2]), numbers, False)
+                self.held((sums, wide[1], changed(numbers, r, c, -1)), numbers, False)
 
     def test_two_changed_so_that_some_sums_stay(self):
         numbers = self.numbers_of(3, 3)
-        floor = (self.sums_of(numbers), block(3, 3, -9), block(3, 3, 9))
-        self.held(floor, self.changed(self.changed(numbers, 0, 0, 1), 0, 1, -1), False)
-        self.held(floor, self.changed(self.changed(numbers, 1, 1, 1), 1, 2, -1), False)
-        self.held(floor, self.changed(self.changed(numbers, 0, 0, 1), 2, 2, -1), False)
-        column = self.changed(self.changed(self.changed(numbers, 0, 0, 1), 1, 0, -1), 2, 0, 1)
+        floor = (floor_direct_sums(numbers), block(3, 3, -9), block(3, 3, 9))
+        self.held(floor, changed(changed(numbers, 0, 0, 1), 0, 1, -1), False)
+        self.held(floor, changed(changed(numbers, 1, 1, 1), 1, 2, -1), False)
+        self.held(floor, changed(changed(numbers, 0, 0, 1), 2, 2, -1), False)
+        column = changed(changed(changed(numbers, 0, 0, 1), 1, 0, -1), 2, 0, 1)
         self.held(floor, column, True)
 
     def test_rows_and_numbers_more_or_fewer(self):
