@@ -273,6 +273,14 @@ def floor_size(floor):
     return len(floor[1]), len(floor[1][0])
 
 
+def no_cells(rows, columns):
+    """Pairs that are no cells of a floor of this size."""
+    far, farthest = 10 ** 60 - 1, 10 ** 5000
+    return [(-1, 0), (0, -1), (-1, -1), (rows, 0), (0, columns), (rows, columns), (rows - 1, columns),
+            (rows, columns - 1), (-rows, -columns), (-rows, 0), (0, -columns), (rows + 1, 0), (0, columns + 1),
+            (far, 0), (0, far), (-far, 0), (0, -far), (farthest, -farthest)]
+
+
 def numbers_within(floor, numbers):
     least, greatest = floor[1:]
     return all(least[r][c] <= numbers[r][c] <= greatest[r][c] for r, c in cells_on(*floor_size(floor)))
