@@ -2,11 +2,11 @@
 
 from tellsum.errors import NoFit, NoPlace
 from tellsum.floors import (
-    cell_sign, cells_of, fitted_floor, greatest_shifts, is_cell, plain_numbers, shifted_numbers)
+    cell_sign, cells_of, fitted_floor, floor_shifts, is_cell, plain_numbers, shifted_numbers)
 
 
 def fitting_shifts(floor, start):
-    return greatest_shifts(floor, start)[0]
+    return floor_shifts(floor, start)[0]
 
 
 def refuse_no_fit(floor):

@@ -2,7 +2,8 @@
 
 Numbers with the same sums differ by shifts alone: each row's shift, less each column's, is put on a cell, or taken off
 it where its sign is -1. So bounds say how far a row's shift may be above a column's, a column's above a row's.
-Rows and columns together are called lanes here, numbered on, the rows first.
+Rows and columns together are called lanes here, numbered on, the rows first. Shifts that are tied so are found for the
+cuts of a line, too: there a lane is a cut.
 """
 
 from tellsum.tellings import in_tuples
@@ -73,9 +74,7 @@ def floor_ties(floor):
 
 # The greatest shifts that all ties leave where lane start has 0; by which other lane each one's came about; and a lane
 # whose shift would have to fall for ever, None where there is none.
-def greatest_shifts(floor, start):
-    ties = floor_ties(floor)
-    many = len(floor[1]) + len(floor[1][0])
+def greatest_shifts(ties, many, start):
     shifts = [None] * many
     shifts[start] = 0
     unders = [None] * many
@@ -91,24 +90,31 @@ def greatest_shifts(floor, start):
     return (shifts, unders, falling)
 
 
-def tour_of(unders, falling, rows):
+# The lanes, each with the one that it is under behind it, that come round to the first again.
+def falling_loop(unders, falling):
     lane = falling
-    # As many steps as lanes lead into the loop; a tour begins at one of its rows.
+    # As many steps as lanes lead into the loop.
     for step in range(len(unders)):
         lane = unders[lane]
-    if lane >= rows:
-        lane = unders[lane]
-    first = lane
-    cells = []
-    while len(cells) == 0 or lane != first:
-        under = unders[lane]
-        cells.append((min(lane, under), max(lane, under) - rows))
-        lane = under
-    return cells
+    loop = [lane]
+    while unders[loop[-1]] != lane:
+        loop.append(unders[loop[-1]])
+    return loop
+
+
+def floor_shifts(floor, start):
+    return greatest_shifts(floor_ties(floor), len(floor[1]) + len(floor[1][0]), start)
+
+
+def tour_of(loop, rows):
+    # Rows and columns go by turns, and a tour begins at a row.
+    lanes = loop if loop[0] < rows else loop[1:] + loop[:1]
+    unders = lanes[1:] + lanes[:1]
+    return [(min(lane, under), max(lane, under) - rows) for lane, under in zip(lanes, unders)]
 
 
 def fitted_floor(floor):
-    found = greatest_shifts(floor, 0)
+    found = floor_shifts(floor, 0)
     if found[2] is not None:
-        return ("tour", tour_of(found[1], found[2], len(floor[1])))
+        return ("tour", tour_of(falling_loop(found[1], found[2]), len(floor[1])))
     return ("floor", shifted_numbers(plain_numbers(floor), found[0]))
