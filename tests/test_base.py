@@ -157,7 +157,8 @@ class Right(unittest.TestCase):
                     self.judged(telling, (base, other, shares), False)
                 for place, number in itertools.product(range(telling[0]), range(len(telling[1]))):
                     top, bottom = shares[place][number]
-                    for pair in ((top + more * bottom, bottom), (top, bottom + more), (-top, bottom), (top + more, bottom)):
+                    for pair in ((top + more * bottom, bottom), (top, bottom + more), (-top, bottom),
+                                 (top + more, bottom)):
                         if pair != (top, bottom):
                             other = with_number(shares, place, with_number(shares[place], number, pair))
                             self.judged(telling, (base, back, other), False)
@@ -196,7 +197,8 @@ class Right(unittest.TestCase):
             self.judged(telling, (base + (nothing,), back + (nothing,), shares), False)
             self.judged(telling, (base + (nothing,), back, shares), False)
             self.judged(telling, (base, back + (nothing,), shares), False)
-            for longer in ((base + (nothing,) * 900, back + (nothing,) * 900, shares), (base * 900, back * 900, shares)):
+            for longer in ((base + (nothing,) * 900, back + (nothing,) * 900, shares),
+                           (base * 900, back * 900, shares)):
                 self.assertIs(few_steps(base_right, telling, longer), base == () == longer[0])
             for place in range(many):
                 self.judged(telling, (base, back, shares[:place] + shares[place + 1:]), False)

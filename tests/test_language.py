@@ -69,6 +69,12 @@ def own_methods():
     return {part.name for node in classes for part in node.body if isinstance(part, ast.FunctionDef)}
 
 
+def own_values():
+    """The names of what objects keep."""
+    return {node.attr for name in MODULES for node in ast.walk(tree_of(name))
+            if isinstance(node, ast.Attribute) and isinstance(node.ctx, ast.Store)}
+
+
 def walked_nodes(tree):
     """The calls that stand where a walk begins at once."""
     walked = []
@@ -215,6 +221,31 @@ class EachFile(unittest.TestCase):
                 self.assertIn(node.func.attr, METHODS | own_methods() | set(TWO_UNDERSCORES))
             if isinstance(node, ast.ExceptHandler):
                 self.assertNotIn(getattr(node.type, "id", None), (None, "Exception", "TypeError"))
+
+    def test_methods_and_values_of_objects(self):
+        self.assertEqual(own_methods() & own_values(), set())
+        pythons = {part for kind in (str, int, list, tuple, dict, set, bytes) for part in dir(kind)}
+        self.assertEqual((own_methods() | own_values()) & pythons - set(TWO_UNDERSCORES), set())
+
+    def test_what_a_loop_walks_is_not_changed_in_it(self):
+        self.each(self.look_at_loops)
+
+    def look_at_loops(self, tree):
+        for loop in ast.walk(tree):
+            # A copy may be walked.
+            if isinstance(loop, ast.For) and called_name(loop.iter) not in ("list", "sorted"):
+                walked = {ast.dump(part) for part in ast.walk(loop.iter) if isinstance(part, (ast.Name, ast.Attribute))}
+                for node in ast.walk(loop):
+                    if isinstance(node, ast.Subscript) and isinstance(node.ctx, ast.Store):
+                        self.assertNotIn(ast.dump(node.value), walked)
+                    if isinstance(node, ast.Call) and isinstance(node.func, ast.Attribute):
+                        if node.func.attr in ("append", "extend", "insert", "pop", "remove", "clear", "update"):
+                            self.assertNotIn(ast.dump(node.func.value), walked)
+
+    def test_no_sets_but_on_the_spot(self):
+        for name in MODULES:
+            for node in ast.walk(tree_of(name)):
+                self.assertNotIn(called_name(node), ("set", "frozenset"))
 
     def test_imports(self):
         drawn = {}

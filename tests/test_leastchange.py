@@ -4,9 +4,10 @@ import unittest
 
 from tellsum.leastchange import change_right, changes_of, line_change, signs_worth
 from tellsum.lines import fitted_line
-from tests.helpers import asked_twice, direct_sums, few_steps, flat, line_round, whole_rows, with_number
+from tests.helpers import asked_twice, direct_sums, few_steps, flat, whole_rows, with_number
 from tests.wronghelpers import (
-    FAR, FARTHEST, great_off_lines, offs_of, off_lines, rows_within, small_off_lines, with_sums, within)
+    FAR, FARTHEST, great_off_lines, off_lines, offs_of, one_off_lines, one_sum_lines, rows_within, single_row_lines,
+    small_off_lines, with_sums, within)
 
 
 def direct_worth(line, signs):
@@ -129,34 +130,21 @@ class Change(unittest.TestCase):
         self.assertEqual(self.told((2, (9, 0, 9), flat(4), flat(4, 9)))[0], 0)
 
     def test_one_sum(self):
-        for k in (2, 3, 4, 5):
-            for total in range(-3, 3 * k + 4):
-                told = self.told((k, (total,), flat(k, -1), flat(k, 2)))
-                self.assertEqual(told[0], max(0, -k - total, total - 2 * k))
+        for line, wanted in one_sum_lines():
+            self.assertEqual(self.told(line)[0], wanted)
 
     def test_both_bounds_alike(self):
-        chance = random.Random(282)
-        for k in (2, 3, 4, 5):
-            for many in (k, k + 1, 24):
-                row = tuple(chance.randint(-FAR, FAR) for place in range(many))
-                sums = tuple(chance.randint(-FAR, FAR) for i in range(many - k + 1))
-                line = (k, sums, row, row)
-                told = self.told(line)
-                self.assertEqual(told[:2], (sum(offs_of(line, row)), row))
+        for line, row in single_row_lines(282):
+            self.assertEqual(self.told(line)[:2], (sum(offs_of(line, row)), row))
 
     def test_great_lines(self):
         for line in great_off_lines(283, 2):
             few_steps(line_change, line)
             self.told(line)
 
-    def test_one_sum_off_by_one_in_a_long_line(self):
-        # Its neighbours are told by tight bounds: only this one has to be changed.
-        for k, i in itertools.product((2, 3, 4, 5), (0, 7, 19)):
-            row = tuple((7 * place) % 11 for place in range(24))
-            line = line_round(row, k, flat(24), flat(24))
-            for step in (1, -1, 10 ** 59):
-                sums = with_number(line[1], i, line[1][i] + step)
-                self.assertEqual(self.told(with_sums(line, sums))[0], abs(step))
+    def test_one_sum_otherwise_in_a_long_line(self):
+        for line, wanted in one_off_lines():
+            self.assertEqual(self.told(line)[0], wanted)
 
     def test_with_the_sums_of_the_told_row_it_fits(self):
         for line in small_off_lines(284, 3) + great_off_lines(285):

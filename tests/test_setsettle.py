@@ -15,7 +15,8 @@ def cost_rows(seed, many):
     return [
         flat(many), flat(many, 3), flat(many, FAR), tuple(unlike), tuple(range(many)), tuple(range(many, 0, -1)),
         tuple(chance.randint(0, 1) for place in range(many)), tuple(chance.randint(0, 2) for place in range(many)),
-        tuple(chance.randint(0, FAR) for place in range(many)), tuple(chance.randint(FAR - 2, FAR) for p in range(many))]
+        tuple(chance.randint(0, FAR) for place in range(many)),
+        tuple(chance.randint(FAR - 2, FAR) for p in range(many))]
 
 
 class Settle(unittest.TestCase):
@@ -144,7 +145,8 @@ class Right(unittest.TestCase):
 
     def test_any_small_moves(self):
         seen = {True: 0, False: 0}
-        for telling, places in (((2, ((0, 1),), (0,)), (0,)), ((3, ((0, 1),), (0,)), (1, 2)), ((3, ((0, 1, 2),), (0,)), (0, 2))):
+        for telling, places in (((2, ((0, 1),), (0,)), (0,)), ((3, ((0, 1),), (0,)), (1, 2)),
+                                ((3, ((0, 1, 2),), (0,)), (0, 2))):
             settling = all_settling(*telling[:2])
             for costs in itertools.product(range(2), repeat=telling[0]):
                 for numbers in itertools.product((-1, 0, 1), repeat=telling[0] * len(places)):

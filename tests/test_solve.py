@@ -197,7 +197,8 @@ class Right(unittest.TestCase):
             # A whole number more is as good, and so is the other side of 0.
             for number, (top, bottom) in enumerate(weights):
                 for times in (1, -1, 7, FAR, FARTHEST):
-                    self.assertTrue(self.by_weights(telling, with_number(weights, number, (top + times * bottom, bottom))))
+                    other = with_number(weights, number, (top + times * bottom, bottom))
+                    self.assertTrue(self.by_weights(telling, other))
             self.assertTrue(self.by_weights(telling, tuple((-top, bottom) for top, bottom in weights)))
             for turn in range(6):
                 number = chance.randrange(len(weights))

@@ -3,7 +3,7 @@
 import itertools
 import random
 
-from tests.helpers import direct_sums, great_line, line_round, tiny_lines
+from tests.helpers import direct_sums, flat, great_line, line_round, tiny_lines, with_number
 
 FAR = 10 ** 60 - 1
 FARTHEST = 10 ** 5000
@@ -87,3 +87,27 @@ def great_off_lines(seed, each=1):
 
 def great_lines_by_2(seed, each=4):
     return [line for line in great_off_lines(seed, each) if line[0] == 2]
+
+
+def one_sum_lines():
+    """Lines of one sum, each with how far it is off at least."""
+    for k in (2, 3, 4, 5):
+        for total in range(-3, 3 * k + 4):
+            yield (k, (total,), flat(k, -1), flat(k, 2)), max(0, -k - total, total - 2 * k)
+
+
+def single_row_lines(seed):
+    """Lines with both bounds alike at each place, with the one row within them."""
+    chance = random.Random(seed)
+    for k in (2, 3, 4, 5):
+        for many in (k, k + 1, 24):
+            row = tuple(chance.randint(-FAR, FAR) for place in range(many))
+            yield (k, tuple(chance.randint(-FAR, FAR) for i in range(many - k + 1)), row, row), row
+
+
+def one_off_lines():
+    """Long lines that leave one row within the bounds, one of its sums otherwise, each with by how much."""
+    row = tuple((7 * place) % 11 for place in range(24))
+    for k, i, step in itertools.product((2, 3, 4, 5), (0, 7, 19), (1, -1, 10 ** 59)):
+        line = line_round(row, k, flat(24), flat(24))
+        yield with_sums(line, with_number(line[1], i, line[1][i] + step)), abs(step)
